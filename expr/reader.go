@@ -4,94 +4,37 @@ import (
 	"slices"
 
 	"selfstab/api"
+	"selfstab/cursor"
 	"selfstab/lexer"
 )
 
-// reader reads an expression from the tokens of a text.
+// reader reads an expression.
 type reader struct {
-	text   string
-	tokens []api.Token // those that are still to be read
-	names  []string
-	terms  []api.Term // what has been read, in prefix order
-}
-
-// fault is what the reader throws at the first error.
-type fault struct {
-	at    int
-	errno api.Errno
-}
-
-// fail throws an error at the place of the next token.
-func (r *reader) fail(e api.Errno) { panic(fault{at: r.next().At, errno: e}) }
-
-// whole reads all tokens as one expression, and returns the first error.
-func (r *reader) whole() (at int, errno api.Errno) {
-	defer func() {
-		switch thrown := recover().(type) {
-		case nil:
-		case fault:
-			at, errno = thrown.at, thrown.errno
-		default: // nothing else is thrown on purpose, but no panic may leave Parse
-			at, errno = r.next().At, api.ErrSyntax
-		}
-	}()
-	r.choice()
-	if len(r.tokens) > 0 {
-		r.fail(api.ErrSyntax)
-	}
-	return 0, api.OK
-}
-
-// next returns the next token. Behind the last one there is an empty one, at the end of the text.
-func (r *reader) next() api.Token {
-	if len(r.tokens) == 0 {
-		return api.Token{At: len(r.text), End: len(r.text)}
-	}
-	return r.tokens[0]
-}
-
-// word returns the next token as it stands in the text.
-func (r *reader) word() string {
-	t := r.next()
-	return r.text[t.At:t.End]
-}
-
-// accept passes over the next token if it is this one, and reports whether it is.
-func (r *reader) accept(word string) bool {
-	if r.word() != word {
-		return false
-	}
-	r.tokens = r.tokens[1:]
-	return true
-}
-
-// expect passes over the next token, which has to be this one.
-func (r *reader) expect(word string) {
-	if !r.accept(word) {
-		r.fail(api.ErrSyntax)
-	}
+	cursor.Cursor
+	names []string
+	terms []api.Term // what has been read, in prefix order
 }
 
 // take makes a term of the next token.
 func (r *reader) take(op, arg int) {
 	r.terms = append(r.terms, api.Term{Op: op, Arg: arg})
-	r.tokens = r.tokens[1:]
+	r.Skip()
 }
 
 // takeAhead makes a term of the next token that stands ahead of the terms from a place on: they are its first operand.
 func (r *reader) takeAhead(from, op int) {
 	r.terms = slices.Insert(r.terms, from, api.Term{Op: op})
-	r.tokens = r.tokens[1:]
+	r.Skip()
 }
 
 // choice reads an expression of any level.
 func (r *reader) choice() {
 	from := len(r.terms)
 	r.joined(or)
-	if r.word() == "?" {
+	if r.Word() == "?" {
 		r.takeAhead(from, api.If)
 		r.choice()
-		r.expect(":")
+		r.Expect(":")
 		r.choice()
 	}
 }
@@ -115,7 +58,7 @@ func (r *reader) joined(l int) {
 
 // sign returns the binary operation of a level that the next token is, or 0.
 func (r *reader) sign(l int) int {
-	op := operation(api.Mul, api.Or, r.word())
+	op := operation(api.Mul, api.Or, r.Word())
 	if level(op) != l {
 		return 0
 	}
@@ -124,7 +67,7 @@ func (r *reader) sign(l int) int {
 
 // unary reads an expression of the level unary.
 func (r *reader) unary() {
-	op := operation(api.Neg, api.Not, r.word())
+	op := operation(api.Neg, api.Not, r.Word())
 	if op == 0 {
 		r.primary()
 		return
@@ -135,11 +78,11 @@ func (r *reader) unary() {
 
 // primary reads an expression of the level primary.
 func (r *reader) primary() {
-	word := r.word()
+	word := r.Word()
 	fact, aggregate := operation(api.True, api.Root, word), operation(api.All, api.Head, word)
 	switch {
-	case r.next().Kind == api.TokenNumber:
-		r.take(api.Num, r.next().Num)
+	case r.Next().Kind == api.TokenNumber:
+		r.take(api.Num, r.Next().Num)
 	case lexer.Name(word):
 		r.variable(api.Own)
 	case fact != 0:
@@ -156,34 +99,34 @@ func (r *reader) primary() {
 
 // variable reads a NAME for an operation on variables.
 func (r *reader) variable(op int) {
-	i := slices.Index(r.names, r.word())
+	i := slices.Index(r.names, r.Word())
 	if i < 0 {
-		r.fail(api.ErrName)
+		r.Fail(api.ErrName)
 	}
 	r.take(op, i)
 }
 
 // neighbour reads the bound neighbour or one of its fields.
 func (r *reader) neighbour() {
-	r.expect("q")
-	if !r.accept(".") {
+	r.Expect("q")
+	if !r.Accept(".") {
 		r.terms = append(r.terms, api.Term{Op: api.Here})
 		return
 	}
-	if lexer.Name(r.word()) {
+	if lexer.Name(r.Word()) {
 		r.variable(api.Near)
 		return
 	}
-	field := operation(api.NearID, api.Back, "q."+r.word())
+	field := operation(api.NearID, api.Back, "q."+r.Word())
 	if field == 0 {
-		r.fail(api.ErrSyntax)
+		r.Fail(api.ErrSyntax)
 	}
 	r.take(field, 0)
 }
 
 // brackets reads an expression of any level between brackets.
 func (r *reader) brackets() {
-	r.expect("(")
+	r.Expect("(")
 	r.choice()
-	r.expect(")")
+	r.Expect(")")
 }
